@@ -1,0 +1,1 @@
+"""Bytegrove: functions that run on packed trees with one cursor."""
