@@ -30,7 +30,26 @@ INTERFACE = {
     "kinds": "Kinds",
     "layouts": "Layout",
     "rows": "pack unpack",
+    "bodies": "Functions",
+    "runs": "run_tree run_row events",
+    "judge": "words_of least_stuck least_unended Verdict Right Wrong judge what_if needless RowFunction",
+    "cheapest": "cheapest offers extra_price",
 }
+
+CLASS_METHODS = {
+    ("bodies", "Functions"): "takes body paths reached",
+    ("judge", "Verdict"): "lines",
+    ("judge", "Right"): "lines",
+    ("judge", "Wrong"): "lines",
+    ("judge", "RowFunction"): "__call__",
+}
+
+# L17, and of L26 the names that no attribute has.
+BARRED = set("""register mro elements open input law version_info with_traceback add_note attrgetter breakpoint builtins
+compile copyright credits delattr dir eval exec exit gc globals help id importlib license locals methodcaller os quit
+setattr type vars""".split())
+BARRED_ATTRIBUTES = set("""register mro elements open input law with_traceback add_note items keys values pop update append
+clear extend insert remove reverse setdefault sort args encode decode hex fromhex format format_map""".split())
 
 
 def is_docstring(statement):
@@ -134,7 +153,8 @@ class LanguageTest(unittest.TestCase):
     def test_operators_assign_nothing_by_signs(self):
         # L5: no += in an operator where a class has an in-place method.
         for where, node in self.nodes(ast.FunctionDef):
-            if node.name.startswith("__") and node.name not in ("__init__", "__iadd__", "__isub__", "__setitem__"):
+            free = ("__init__", "__call__", "__iadd__", "__isub__", "__setitem__")
+            if node.name.startswith("__") and node.name not in free:
                 for inner in ast.walk(node):
                     self.assertNotIsInstance(inner, ast.AugAssign, where)
 
@@ -144,6 +164,59 @@ class LanguageTest(unittest.TestCase):
                        if isinstance(statement, (ast.FunctionDef, ast.ClassDef))]
             for word in wanted.split():
                 self.assertIn(word, defined)
+
+    def test_methods_are_defined_in_their_classes(self):
+        for (name, cls), wanted in CLASS_METHODS.items():
+            body = [node.body for node in self.trees[name + ".py"].body
+                    if isinstance(node, ast.ClassDef) and node.name == cls][0]
+            defined = [node.name for node in body if isinstance(node, ast.FunctionDef)]
+            for word in wanted.split():
+                self.assertIn(word, defined)
+
+    def assigned_attributes(self):
+        """Yield the names of attributes that are assigned, with their places."""
+        for where, node in self.nodes(ast.Attribute):
+            if isinstance(node.ctx, ast.Store):
+                yield where, node.attr
+
+    def test_barred_names(self):
+        for where, node in self.nodes(ast.Name):
+            self.assertNotIn(node.id, BARRED, where)
+        for where, node in self.nodes(ast.arg):
+            self.assertNotIn(node.arg, BARRED, where)
+        for where, node in self.nodes(ast.FunctionDef):
+            self.assertNotIn(node.name, BARRED, where)
+        for where, name in self.assigned_attributes():
+            self.assertNotIn(name, BARRED_ATTRIBUTES, where)
+
+    def test_no_name_is_a_method_and_an_attribute(self):
+        # Narrower than L18, which lets other classes do so.
+        methods = {node.name for _, cls in self.nodes(ast.ClassDef) for node in cls.body
+                   if isinstance(node, ast.FunctionDef)}
+        for where, name in self.assigned_attributes():
+            self.assertNotIn(name, methods, where)
+
+    def test_generators(self):
+        # L23: no other function has a generator's name; no yield in a try; the package iterates none.
+        functions = [node for _, node in self.nodes(ast.FunctionDef)]
+        generators = [node.name for node in functions
+                      if any(isinstance(inner, (ast.Yield, ast.YieldFrom)) for inner in ast.walk(node))]
+        self.assertEqual(generators, ["events"])
+        self.assertEqual([node.name for node in functions].count("events"), 1)
+        for where, node in self.nodes(ast.Name):
+            self.assertNotEqual(node.id, "events", where)
+        for where, node in self.nodes(ast.Try):
+            for inner in ast.walk(node):
+                self.assertNotIsInstance(inner, ast.Yield, where)
+
+    def test_handlers(self):
+        # L19: what is caught is an own error, by its name.
+        own = INTERFACE["errors"].split()
+        for where, node in self.nodes(ast.ExceptHandler):
+            self.assertIsInstance(node.type, ast.Name, where)
+            self.assertIn(node.type.id, own, where)
+        for where, node in self.nodes(ast.Raise):
+            self.assertTrue(node.exc is None or isinstance(node.exc, ast.Call), where)
 
 
 if __name__ == "__main__":
